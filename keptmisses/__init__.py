@@ -1,0 +1,1 @@
+"""Keptmisses: guessing under promised misses."""
