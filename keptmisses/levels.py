@@ -1,9 +1,7 @@
 """Levels: the least cost that chances can hold to, whatever letter comes."""
 
-from itertools import combinations
-
 from keptmisses.errors import NoWorths
-from keptmisses.fraction import ONE, ZERO, is_fraction, is_less, minus, reduced, total
+from keptmisses.fraction import ONE, ZERO, common, is_fraction, minus, reduced, total
 
 
 def is_worths(thing):
@@ -13,41 +11,39 @@ def is_worths(thing):
     return all([is_fraction(worth) for worth in thing])
 
 
-def all_lots(size):
-    """All lots of so many letters: those of fewest letters first, of these the least first."""
-    lots = []
-    for many in range(1, size + 1):
-        for lot in combinations(range(size), many):
-            lots.append(lot)
-    return lots
+def best_lot(tops, bottom):
+    """The even lot of worths that are told by their tops over one bottom, and the top of the lot's sum.
 
-
-def lot_sum(worths, lot):
-    """The mean worth of the lot's letters, and 1 - 1 / size of the lot, together."""
-    many = len(lot)
-    top, bottom = total([worths[letter] for letter in lot])
-    return reduced(top + (many - 1) * bottom, many * bottom)
+    The sum, too, is over this bottom, but times the lot's size.
+    """
+    lot = []
+    most = -bottom
+    for drop, letter in sorted([(-top, letter) for letter, top in enumerate(tops)]):
+        more = bottom - drop
+        # A letter whose worth and 1 are no more than the sum so far doesn't raise it, nor do those of lesser worth.
+        if lot and more * len(lot) <= most:
+            break
+        lot.append(letter)
+        most = most + more
+    return tuple(sorted(lot)), most
 
 
 def even_lot(worths):
     """The lot with the greatest sum; of several the one of fewest letters, of these the least."""
     if not is_worths(worths):
         raise NoWorths()
-    best = (0,)
-    most = lot_sum(worths, best)
-    # all_lots tells the lots to be taken first ahead, so an alike sum never replaces the best.
-    for lot in all_lots(len(worths)):
-        here = lot_sum(worths, lot)
-        if is_less(most, here):
-            best = lot
-            most = here
-    return best
+    tops, bottom = common(worths)
+    return best_lot(tops, bottom)[0]
 
 
 def level(worths):
     """The least v such that chances keep each worth + 1 - chance at most v."""
+    if not is_worths(worths):
+        raise NoWorths()
+    tops, bottom = common(worths)
     # The sum of the lots is greatest at the level, so no search for it is needed.
-    return lot_sum(worths, even_lot(worths))
+    lot, most = best_lot(tops, bottom)
+    return reduced(most, len(lot) * bottom)
 
 
 def filled(worths):

@@ -74,20 +74,24 @@ def is_chances(size, thing):
     return total(thing) == ONE
 
 
-def reached(machine):
-    """The ascending tuple of the states to which some row leads."""
-    if not is_machine(machine):
-        raise NoMachine()
-    rules = machine[1]
-    found = [0]
+def come_to(nexts, begin):
+    """The ascending tuple of the states to which one comes from a state, itself too; nexts tells those behind each."""
+    found = [begin]
     done = 0
     while done < len(found):
-        rule = rules[found[done]]
-        for _, state in rule:
+        behind = nexts[found[done]]
+        for state in behind:
             if state not in found:
                 found.append(state)
         done += 1
     return tuple(sorted(found))
+
+
+def reached(machine):
+    """The ascending tuple of the states to which some row leads."""
+    if not is_machine(machine):
+        raise NoMachine()
+    return come_to([[state for _, state in rule] for rule in machine[1]], 0)
 
 
 def steps_of(machine, row):

@@ -12,6 +12,13 @@ FUNCTIONS = {
                  "reached": ["machine"], "state_after": ["machine", "row"], "allowed": ["machine", "row"],
                  "misses": ["row", "told"]},
     "levels": {"level": ["worths"], "filled": ["worths"], "even_lot": ["worths"]},
+    "heights": {"is_heights": ["machine", "thing"], "kept": ["machine"], "least_heights": ["machine"],
+                "start": ["machine"]},
+    "chancers": {"is_chancer": ["machine", "thing"], "is_winner": ["machine", "thing"],
+                 "shares": ["machine", "chancer"], "gain": ["machine", "chancer"], "most_gain": ["machine"],
+                 "winner": ["machine"], "best_chancer": ["machine"]},
+    "guessers": {"chances_at": ["machine", "state"], "guess": ["machine", "row"], "all_guesses": ["machine", "row"]},
+    "foes": {"foe": ["machine", "begin", "function"], "is_broken": ["machine", "begin", "function", "thing"]},
 }
 CLASSES = {
     "errors": {
@@ -21,6 +28,11 @@ CLASSES = {
         "NoNumber": {}, "NoText": {}, "NoArea": {}, "NoStand": {}, "NoThing": {}, "NoItems": {}, "NoDeed": {},
         "Down": {}, "NotDown": {}, "TooMany": {"__init__": ["self", "most"]},
         "BadText": {"__init__": ["self", "place"]},
+    },
+    "guessers": {
+        "Guesser": {"__init__": ["self", "machine"], "chances": ["self"], "read": ["self", "letter"],
+                    "misses": ["self"], "spare": ["self"], "row": ["self"], "state": ["self"], "back": ["self"],
+                    "copy": ["self"]},
     },
 }
 
