@@ -3,10 +3,8 @@
 from keptmisses.errors import Held, NoFraction, NoMachine, TooMany
 from keptmisses.fraction import ZERO, is_fraction, is_less, negated, total
 from keptmisses.heights import in_parts, lot_at, start
+from keptmisses.levels import SIZES_MULTIPLE
 from keptmisses.machines import MOST_LETTERS, allowed, is_chances, is_machine, is_row, misses
-
-# Each size of a lot is a divisor of it, so with it in the scale worths stay integers.
-SIZES_MULTIPLE = 12
 
 
 def sure_worths(machine, begin):

@@ -3,6 +3,9 @@
 from keptmisses.errors import NoWorths
 from keptmisses.fraction import ONE, ZERO, common, is_fraction, minus, reduced, total
 
+# Each size of a lot is a divisor of it, so with it in the bottom of worths their level has an integer for its top.
+SIZES_MULTIPLE = 12
+
 
 def is_worths(thing):
     """Whether a thing is a tuple of 2 to 4 fractions, one for each letter."""

@@ -21,6 +21,13 @@ def is_below(thing, end):
     return is_whole(thing) and 0 <= thing < end
 
 
+def are_below(thing, many, end):
+    """Whether a thing is a tuple of so many integers from 0 on and below an end."""
+    if not isinstance(thing, tuple) or len(thing) != many:
+        return False
+    return all([is_below(item, end) for item in thing])
+
+
 def is_allowance(thing):
     """Whether a thing is a fraction that a machine may allow for a letter."""
     if not is_fraction(thing):
@@ -43,15 +50,20 @@ def is_rule(thing, size, states):
     return all([is_step(step, states) for step in thing])
 
 
-def is_machine(thing):
-    """Whether a thing is a machine."""
+def is_ruled(thing, most, judge):
+    """Whether a thing is a tuple (size, rules) of 1 to most rules, as judge(rule, size, states) tells."""
     if not isinstance(thing, tuple) or len(thing) != 2:
         return False
     size, rules = thing
     if not is_size(size) or not isinstance(rules, tuple):
         return False
     states = len(rules)
-    return 1 <= states <= MOST_STATES and all([is_rule(rule, size, states) for rule in rules])
+    return 1 <= states <= most and all([judge(rule, size, states) for rule in rules])
+
+
+def is_machine(thing):
+    """Whether a thing is a machine."""
+    return is_ruled(thing, MOST_STATES, is_rule)
 
 
 def is_row(size, thing):

@@ -19,6 +19,13 @@ FUNCTIONS = {
                  "winner": ["machine"], "best_chancer": ["machine"]},
     "guessers": {"chances_at": ["machine", "state"], "guess": ["machine", "row"], "all_guesses": ["machine", "row"]},
     "foes": {"foe": ["machine", "begin", "function"], "is_broken": ["machine", "begin", "function", "thing"]},
+    "guessing": {"is_guessing": ["thing"], "is_endless": ["machine", "guessing", "thing"], "told_by": ["guessing", "row"],
+                 "worst": ["machine", "guessing"], "as_guessing": ["machine"]},
+    "compare": {"over": ["one", "other"], "is_over": ["one", "other", "thing"], "parting": ["one", "other"]},
+    "algebra": {"added": ["machine", "amount"], "relettered": ["machine", "letters"], "mixed": ["one", "other", "part"],
+                "trimmed": ["machine"]},
+    "advisers": {"is_adviser": ["thing"], "is_circle": ["thing"], "adviser_misses": ["circle", "row"],
+                 "lag": ["circle", "n"], "followed": ["circle", "n", "row"]},
 }
 CLASSES = {
     "errors": {
