@@ -26,6 +26,12 @@ FUNCTIONS = {
                 "trimmed": ["machine"]},
     "advisers": {"is_adviser": ["thing"], "is_circle": ["thing"], "adviser_misses": ["circle", "row"],
                  "lag": ["circle", "n"], "followed": ["circle", "n", "row"]},
+    "notation": {"machine_text": ["machine"], "read_machine": ["text"]},
+    "disks": {"lines": ["text"], "opened": ["disk"], "rest": ["text"], "noted": ["disk", "item", "most"],
+              "rewritten": ["disk", "items", "most"], "standing": ["disk"]},
+    "texts": {"thing_text": ["thing"], "sealed": ["thing"], "read_thing": ["text"], "unsealed": ["text"],
+              "check": ["text"]},
+    "stores": {"is_deed": ["store", "thing"]},
 }
 CLASSES = {
     "errors": {
@@ -40,6 +46,17 @@ CLASSES = {
         "Guesser": {"__init__": ["self", "machine"], "chances": ["self"], "read": ["self", "letter"],
                     "misses": ["self"], "spare": ["self"], "row": ["self"], "state": ["self"], "back": ["self"],
                     "copy": ["self"]},
+    },
+    "disks": {
+        "Disk": {"__init__": ["self"], "area": ["self", "k"], "append": ["self", "k", "text", "most"],
+                 "clear": ["self", "k"], "shorten": ["self", "k", "many"], "copy": ["self"],
+                 "__eq__": ["self", "other"]},
+    },
+    "stores": {
+        "Store": {"__init__": ["self", "machine"], "do": ["self", "deed"], "cut": ["self", "deed", "most"],
+                  "fall": ["self"], "compact": ["self", "most"], "rise": ["self"], "machine": ["self"],
+                  "ages": ["self"], "chances": ["self"], "misses": ["self"], "allowed": ["self"], "up": ["self"],
+                  "disk": ["self"], "copy": ["self"]},
     },
 }
 
